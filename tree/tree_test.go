@@ -8,6 +8,7 @@ import (
 	"testing"
 
 	"jetty/api"
+	"jetty/audit"
 	"jetty/node"
 	"jetty/space"
 	"jetty/stage"
@@ -268,8 +269,11 @@ func TestRestore(t *testing.T) { // P16.1: one that wasn't there is a ghost
 }
 
 // sound holds a tree against what an index is: order, levels, the leaves' chain.
-func sound(t *testing.T, s *stage.Stage, store int) {
+func sound(t *testing.T, s *stage.Stage, store int) { // P16.3, too
 	t.Helper()
+	if e := audit.Check(s); e != api.OK {
+		t.Fatal("audit", e)
+	}
 	_, root, _, e := space.Find(s, store)
 	if e != api.OK {
 		t.Fatal(e)
