@@ -202,6 +202,8 @@ func TestDirectoryAndMap(t *testing.T) { // P22.1
 	check(t, "and given back", x, api.OK)
 	space.Give(x, 3)
 	check(t, "a page that is reached and given back", x, api.ErrForm)
+	x = with(t, s, 1, func(p *api.Page) { p.Cells[0].Data = "\xf7" + p.Cells[0].Data[1:9] + "\x80" + p.Cells[0].Data[10:] })
+	check(t, "as many pages, but others", x, api.ErrForm)
 }
 
 func TestHeapFaults(t *testing.T) { // P22.1

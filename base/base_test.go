@@ -9,8 +9,10 @@ import (
 	"jetty/api"
 	"jetty/base"
 	"jetty/disk"
+	"jetty/lob"
 	"jetty/space"
 	"jetty/stage"
+	"jetty/tree"
 )
 
 // volume: a new one, mounted.
@@ -448,8 +450,84 @@ func TestKept(t *testing.T) { // P19.1: what others may take back keeps its plac
 	}
 	ok(t, b, x, abort)
 	x = begin(t, b)
-	if a := b.Do(x, insert(1, "t"), keep[:3]); a.Err != api.OK || a.Num != ids[0] {
+	others := append(keep[:3:3], api.Name{Store: 2, Item: base.Item(ids[0])}, api.Name{Store: 1, Item: string([]byte{byte(ids[0])})}, api.Name{Store: 1, Item: base.Item(ids[0]) + "\x00"})
+	if a := b.Do(x, insert(1, "t"), others); a.Err != api.OK || a.Num != ids[0] {
 		t.Fatal(a)
+	}
+}
+
+func TestKeptPieces(t *testing.T) { // P19.1: an object that is handed in keeps the places of its pieces
+	_, b := volume(t, 200, 4096, 32)
+	x := begin(t, b)
+	ok(t, b, x, newStore(api.Object))
+	ok(t, b, x, api.Op{Kind: api.OpNew, Store: 1, Num: 5})
+	ok(t, b, x, api.Op{Kind: api.OpWrite, Store: 1, Num: 5, Val: strings.Repeat("o", 64)})
+	ok(t, b, x, commit)
+	x = begin(t, b)
+	ok(t, b, x, api.Op{Kind: api.OpDestroy, Store: 1, Num: 5})
+	ok(t, b, x, commit)
+	x = begin(t, b)
+	for i := range 40 {
+		op := api.Op{Kind: api.OpNew, Store: 1, Num: []int{4, 6}[i%2] + 100*(i/2)*(2*(i%2)-1)}
+		if op.Num < 0 {
+			op.Num = i
+		}
+		a := b.Do(x, op, []api.Name{{Store: 1, Item: base.Item(5)}, {Store: 1, Item: base.Item(1000)}, {Store: 1, Item: "odd"}, {Store: 1, Item: "\xff\xff\xff\xff"}})
+		if a.Err != api.OK && a.Err != api.ErrThere && a.Err != api.ErrArg {
+			t.Fatal(a)
+		}
+	}
+	s := stage.New(b.Source())
+	for i := range 4 {
+		key := lob.Key(5, i)
+		if k, _, state, e := tree.Seek(s, 1, key); k != key || state != api.Ghost || e != api.OK {
+			t.Fatalf("piece %d: %x, %d, %d", i, k, state, e)
+		}
+	}
+}
+
+func TestGhostsAreForgotten(t *testing.T) { // P19.2: by Mount, where the end of a transaction had no time for it
+	for _, made := range []int{3, 6} {
+		d, b := volume(t, 30, 1000, 8)
+		x := begin(t, b)
+		for i := range made {
+			ok(t, b, x, newStore(1+i%3))
+		}
+		ok(t, b, x, commit)
+		x = begin(t, b)
+		for _, store := range []int{1, made} {
+			ok(t, b, x, api.Op{Kind: api.OpDrop, Store: store})
+		}
+		ok(t, b, x, commit)
+		b = mount(t, d.Crash(nil), 8)
+		s := stage.New(b.Source())
+		if used, _, e := space.Used(s); len(used) != made || e != api.OK { // two pages more, two roots less
+			t.Fatal(used, e)
+		}
+		for store := 1; store <= made; store++ {
+			_, _, _, e := space.Find(s, store)
+			if gone := store == 1 || store == made; gone != (e == api.ErrStore) {
+				t.Fatal(store, e)
+			}
+		}
+		if y := begin(t, b); y <= x {
+			t.Fatal("each transaction has a new number", x, y)
+		}
+	}
+}
+
+func TestManyKeys(t *testing.T) { // P19.1: more than one call lists
+	_, b := volume(t, 300, 4096, 32)
+	x := begin(t, b)
+	ok(t, b, x, newStore(api.Index))
+	var want []api.Pair
+	for i := range 200 {
+		key := string([]byte{byte(i / 16), byte(i % 16)})
+		ok(t, b, x, put(1, key, "v"+key))
+		want = append(want, api.Pair{Key: key, Val: "v" + key})
+		if i == 63 || i == 64 || i == 127 || i == 128 || i == 199 {
+			shelves(t, b, api.Shelf{Store: 1, Kind: api.Index, Pairs: want})
+		}
 	}
 }
 
@@ -670,6 +748,54 @@ func TestCheckpoint(t *testing.T) { // P19.1, P19.2
 	shelves(t, b, api.Shelf{Store: 1, Kind: api.Heap, Pairs: []api.Pair{{Id: id, Val: "b"}}})
 	if y := begin(t, b); y <= x {
 		t.Fatal("each transaction has a new number", x, y)
+	}
+}
+
+func TestMastersByTurns(t *testing.T) { // P19.1: one of the two sectors, by turns
+	d, b := volume(t, 30, 128, 8)
+	pair := func() [2]string {
+		t.Helper()
+		if d.Pending() != 0 {
+			t.Fatal("no barrier behind it")
+		}
+		one, _ := d.Read(0)
+		two, _ := d.Read(1)
+		return [2]string{one, two}
+	}
+	old, turn := pair(), -1
+	for i := range 8 {
+		x := begin(t, b)
+		if i == 0 {
+			ok(t, b, x, newStore(api.Heap))
+		} else {
+			ok(t, b, x, insert(1, "r"))
+		}
+		if i%3 > 0 {
+			ok(t, b, x, commit)
+		}
+		if e := b.Checkpoint(); e != api.OK {
+			t.Fatal(e)
+		}
+		if i%3 == 0 {
+			ok(t, b, x, commit)
+			if e := b.Checkpoint(); e != api.OK {
+				t.Fatal(e)
+			}
+			old, turn = pair(), -1
+			continue
+		}
+		now := pair()
+		if (now[0] != old[0]) == (now[1] != old[1]) {
+			t.Fatal("not just one of the two")
+		}
+		wrote := 0
+		if now[1] != old[1] {
+			wrote = 1
+		}
+		if wrote == turn {
+			t.Fatal("the same one again")
+		}
+		old, turn = now, wrote
 	}
 }
 

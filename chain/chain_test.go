@@ -604,6 +604,96 @@ func TestRise(t *testing.T) { // P18.1
 	}
 }
 
+func TestPlacesBelowNought(t *testing.T) { // P18.1: as long as the place is greater than to, and than 0
+	for _, to := range []int{math.MinInt, -1, 0, 1, 53} {
+		b := lay(t, 128)
+		b.begin(1)
+		b.ok(b.c.Back(1, to, nil))
+		for i := range 3 {
+			u, m := b.set(3, i, "a")
+			b.ok(b.c.Change(1, u, m, 0))
+		}
+		b.ok(b.c.Back(1, to, b))
+		b.reserved(128)
+		b.ok(b.c.Back(1, to, nil))
+		if l := b.log(); len(l) != 6 {
+			t.Fatal(to, len(l))
+		}
+	}
+}
+
+func TestCheckWithoutRecords(t *testing.T) { // P18.1: nothing is written, so no room is needed
+	b := lay(t, 128)
+	b.begin(1)
+	b.l.Append(strings.Repeat("x", b.l.Room()-2-128))
+	_, end, _ := b.l.Span()
+	if a, o, e := b.c.Check(); a != end || o != end || e != api.OK {
+		t.Fatal(a, o, e)
+	}
+	b.ok(b.c.Cut(end))
+	b.begin(2)
+}
+
+func TestCheckDown(t *testing.T) { // P18.1: beside an error there is nothing
+	done := false
+	for fuel := 0; !done; fuel++ {
+		b := lay(t, 128)
+		b.begin(1)
+		u, m := b.set(3, 2, "a")
+		b.ok(b.c.Change(1, u, m, 0))
+		b.d.Fuel(fuel)
+		a, o, e := b.c.Check()
+		done = e == api.OK
+		if !done && (a != 0 || o != 0 || e != api.ErrDown) {
+			t.Fatal(fuel, a, o, e)
+		}
+	}
+	for _, way := range []int{0, 1, 2} {
+		b := lay(t, 128)
+		b.begin(1)
+		u, m := b.set(3, 2, "a")
+		b.ok(b.c.Change(1, u, m, 0))
+		b.d.Fuel(0)
+		switch way {
+		case 0:
+			if e := b.c.Commit(1); e != api.ErrDown {
+				t.Fatal(e)
+			}
+		case 1: // pages beyond what the pool keeps
+			e := api.OK
+			for id := 0; id < 20 && e == api.OK; id++ {
+				e = b.c.System([]api.Image{{Id: id}})
+			}
+			if e != api.ErrDown {
+				t.Fatal(e)
+			}
+		case 2:
+			b.ok(b.c.Abort(1, b)) // nothing is written to the device
+		}
+	}
+}
+
+func TestRiseOfEight(t *testing.T) { // P18.1: as many as may live, and the number 0
+	b := lay(t, 128)
+	var l []api.Alive
+	for x := range 8 {
+		l = append(l, api.Alive{Xct: x})
+	}
+	b.ok(b.c.Rise(l))
+	b.lives(l...)
+	b.reserved(8 * 128)
+	if x, e := b.c.Begin(); x != 0 || e != api.ErrMany {
+		t.Fatal(x, e)
+	}
+	b.ok(b.c.Commit(0))
+	b.c.Free(0)
+	b.reserved(8 * 128)
+	b.ok(b.c.Commit(3))
+	b.c.Free(3)
+	b.reserved(7 * 128)
+	b.begin(8)
+}
+
 func TestRecordsThatAreNone(t *testing.T) { // rule 1: every call ends
 	b := lay(t, 128)
 	b.l.Append("no record at all")

@@ -343,6 +343,46 @@ func TestEscalation(t *testing.T) { // P21.1: with most items the whole store is
 	step(t, d, 0, fine)
 }
 
+func TestItemsOfTheWhole(t *testing.T) { // P21.1: S, SIX and X of a store pass over its items, where that is enough
+	_, b := mounted(t, 30, 600)
+	d := open(t, b, 1, 64)
+	do(t, d, 0, begin, fine)
+	do(t, d, 0, api.Op{Kind: api.OpMake, Num: api.Heap}, api.Answer{Num: 1})
+	read := func(id int) api.Op { return api.Op{Kind: api.OpRead, Store: 1, Num: id} }
+	for i := range 3 {
+		do(t, d, 0, api.Op{Kind: api.OpInsert, Store: 1, Val: "r"}, api.Answer{Num: 16 + i})
+	}
+	locked(t, d, hold(0, "", 1, api.X, 0), hold(1, "", 1, api.X, 0)) // X of the store will do
+	do(t, d, 0, commit, fine)
+	do(t, d, 0, begin, fine)
+	do(t, d, 0, api.Op{Kind: api.OpList, Store: 1}, api.Answer{Pairs: []api.Pair{{Id: 16, Val: "r"}, {Id: 17, Val: "r"}, {Id: 18, Val: "r"}}})
+	do(t, d, 0, read(16), api.Answer{Val: "r"})
+	locked(t, d, hold(0, "", 2, api.IS, 0), hold(1, "", 2, api.S, 0))
+	do(t, d, 0, api.Op{Kind: api.OpUpdate, Store: 1, Num: 17, Val: "s"}, fine)
+	do(t, d, 0, read(18), api.Answer{Val: "r"})
+	do(t, d, 0, api.Op{Kind: api.OpInsert, Store: 1, Val: "t"}, api.Answer{Num: 19})
+	locked(t, d, hold(0, "", 2, api.IX, 0), hold(1, "", 2, api.SIX, 0), hold(1, base.Item(17), 2, api.X, 0), hold(1, base.Item(19), 2, api.X, 0))
+}
+
+func TestItemsOfOtherStores(t *testing.T) { // P21.1: they don't count
+	_, b := mounted(t, 30, 600)
+	d := open(t, b, 1, 2)
+	do(t, d, 0, begin, fine)
+	do(t, d, 0, api.Op{Kind: api.OpMake, Num: api.Index}, api.Answer{Num: 1})
+	do(t, d, 0, api.Op{Kind: api.OpMake, Num: api.Object}, api.Answer{Num: 2})
+	do(t, d, 0, commit, fine)
+	do(t, d, 0, begin, fine)
+	do(t, d, 0, put("a"), fine) // a, and the end
+	do(t, d, 0, api.Op{Kind: api.OpNew, Store: 2, Num: 5}, fine)
+	do(t, d, 0, api.Op{Kind: api.OpNew, Store: 2, Num: 6}, fine)
+	locked(t, d, hold(0, "", 2, api.IX, 0), hold(1, "", 2, api.IX, 0), hold(1, "a", 2, api.X, 0), hold(1, plan.End, 2, api.X, 0),
+		hold(2, "", 2, api.IX, 0), hold(2, base.Item(5), 2, api.X, 0), hold(2, base.Item(6), 2, api.X, 0))
+	do(t, d, 0, api.Op{Kind: api.OpNew, Store: 2, Num: 7}, fine)
+	if m := d.Locks()[4]; m != hold(2, "", 2, api.X, 0) || len(d.Locks()) != 7 {
+		t.Fatal(d.Locks())
+	}
+}
+
 func TestStrict(t *testing.T) { // P21.5
 	_, d := index(t, 2, 64, "a", "b")
 	do(t, d, 0, api.Op{Kind: api.OpSave}, api.Answer{})

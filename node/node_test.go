@@ -138,6 +138,8 @@ func TestCheck(t *testing.T) { // P5.1
 		change(leaf("a"), func(p *api.Page) { p.Cells[1].Data = "x" }),
 		change(leaf("a"), func(p *api.Page) { p.Cells[5].Data = "\x00" }),
 		change(leaf("a"), func(p *api.Page) { p.Cells[2] = cell(1, "c", "") }),
+		change(leaf("a"), func(p *api.Page) { p.Cells[2].State = api.Live }),
+		change(leaf("a"), func(p *api.Page) { p.Cells[5].State = api.Ghost }),
 		change(leaf("a"), func(p *api.Page) { p.Cells[0].State = 3 }),
 		change(leaf("a"), func(p *api.Page) { p.Cells[0].State = -1 }),
 		change(leaf("a"), func(p *api.Page) { p.Cells[0] = cell(1, "a", strings.Repeat("v", 21)) }),

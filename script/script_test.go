@@ -127,22 +127,33 @@ func TestSessions(t *testing.T) { // P23.1
 	lines(t, first+"0 begin / 0 set 1 61 63 / 1 begin / 1 range 1 - 5 / 1 len 1 5 / 0 commit / 1 step", fine+"ok / ok / ok / wait / error 211 / ok / ok 61=63")
 	lines(t, first+"0 begin / 1 begin / 0 set 1 61 63 / 1 put 1 6161 - / 0 put 1 62 - / 1 set 1 61 64 / 0 commit / 1 step / 1 commit / all",
 		fine+"ok / ok / ok / ok / wait / error 210 / error 211 / error 211 / error 191 / ok 1:2 61=63")
-	// Sixty-four items, and then the whole store.
-	text, want := first, fine
-	text += "0 begin / 1 begin / "
-	want += "ok / ok / "
-	for i := range 64 {
-		text += "0 get 1 00" + string("0123456789abcdef"[i/16]) + string("0123456789abcdef"[i%16]) + " / "
-		want += "error 150 / "
+}
+
+func TestMostItems(t *testing.T) { // P23.1: sixty-four items, and then the whole store
+	text, want := "volume 60 2000 / 0 begin / 0 make 2 / ", "ok / ok / ok 1 / "
+	for i := range 66 {
+		text += "0 put 1 " + hex(i) + " - / "
+		want += "ok / "
 	}
-	lines(t, text+"1 put 1 7a - / 0 get 1 62", want+"ok / wait")
+	all := ""
+	for i := range 63 {
+		all += " " + hex(i) + "=-"
+	}
+	text += "0 commit / 0 begin / 0 range 1 - 63 / 0 get 1 3f / 1 begin / 1 put 1 ff - / 1 abort / 0 get 1 40 / 1 begin / 1 put 1 ff - / 0 commit / 1 step"
+	lines(t, text, want+"ok / ok / ok"+all+" / ok - / ok / ok / ok / ok - / ok / wait / ok / ok")
+}
+
+func hex(i int) string {
+	return string([]byte{"0123456789abcdef"[i/16], "0123456789abcdef"[i%16]})
 }
 
 func TestCrash(t *testing.T) { // P23.1
 	lines(t, first+"fuel 0 / checkpoint / checkpoint / all / 0 begin / crash 0 / all / 0 begin", fine+"ok / error 20 / error 20 / error 20 / error 20 / ok / ok 1:2 61=62 / ok")
 	lines(t, first+"0 begin / crash 1 / 0 step / 0 commit / 0 begin / 0 cut 1 61 / 0 commit / crash 000000 / all", fine+"ok / ok / error 211 / error 191 / ok / ok / ok / ok / ok 1:2")
 	lines(t, first+"0 begin / 0 cut 1 61 / 1 begin / 1 get 1 61 / crash 0 / 1 step / 1 begin / 1 get 1 61", fine+"ok / ok / ok / wait / ok / error 211 / ok / ok 62")
+	kept := 0
 	for fuel := range 20 { // a commit under way: it is there, or not; one that was answered is there
+		some := ""
 		for _, keep := range []string{"0", "1", "10", strings.Repeat("1", 99)} {
 			got := script.Run(strings.ReplaceAll(first+"0 begin / 0 set 1 61 ff / fuel "+strconv.Itoa(fuel)+" / 0 commit / crash "+keep+" / all", " / ", "\n"))
 			l := strings.Split(got, "\n")
@@ -153,7 +164,14 @@ func TestCrash(t *testing.T) { // P23.1
 			if fuel == 0 && commit == "ok" || fuel == 19 && commit != "ok" {
 				t.Fatal(fuel, commit)
 			}
+			some += keep[:1] + all[len(all)-2:] + " "
 		}
+		if some == "062 162 162 1ff " { // all writes were under way: each bit counts
+			kept++
+		}
+	}
+	if kept == 0 {
+		t.Fatal("what crash keeps plays no part")
 	}
 	lines(t, first+"checkpoint / crash "+strings.Repeat("01", 3000)+" / all / fuel 999999 / all", fine+"ok / ok / ok 1:2 61=62 / ok / ok 1:2 61=62")
 }

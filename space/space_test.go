@@ -306,24 +306,34 @@ type source struct {
 
 func (o source) Get(id int) (api.Page, api.Errno) { return o.pages[id], o.bad[id] }
 
-func calls(s *stage.Stage) map[string]api.Errno {
+// calls: which errors all calls answer; beside an error there is nothing.
+func calls(t *testing.T, s *stage.Stage) map[string]api.Errno {
+	t.Helper()
 	out := map[string]api.Errno{}
-	_, out["take"] = space.Take(s)
-	s.Drop()
-	out["give"] = space.Give(s, 5)
-	s.Drop()
-	_, _, out["used"] = space.Used(s)
-	_, out["make"] = space.Make(s, api.Heap)
-	s.Drop()
-	_, out["make4"] = space.Make(s, 4)
-	s.Drop()
-	_, _, _, out["find"] = space.Find(s, 9)
-	out["state"] = space.State(s, 9, 0)
-	s.Drop()
-	out["forget"] = space.Forget(s, 1)
-	s.Drop()
-	out["forget9"] = space.Forget(s, 9)
-	s.Drop()
+	note := func(name string, e api.Errno, rest ...int) {
+		t.Helper()
+		s.Drop()
+		out[name] = e
+		for _, n := range rest {
+			if e != api.OK && n != 0 {
+				t.Fatal(name, e, rest)
+			}
+		}
+	}
+	id, e := space.Take(s)
+	note("take", e, id)
+	note("give", space.Give(s, 5))
+	used, n, e := space.Used(s)
+	note("used", e, len(used), n)
+	n, e = space.Make(s, api.Heap)
+	note("make", e, n)
+	n, e = space.Make(s, 4)
+	note("make4", e, n)
+	kind, root, state, e := space.Find(s, 9)
+	note("find", e, kind, root, state)
+	note("state", space.State(s, 9, 0))
+	note("forget", space.Forget(s, 1))
+	note("forget9", space.Forget(s, 9))
 	return out
 }
 
@@ -355,13 +365,56 @@ func TestNoVolume(t *testing.T) { // P14.1: errors, and which of them come first
 		{"full, and no map", stage.New(source{map[int]api.Page{0: full}, nil}), "40 40 40 192 1 190 1 40 1"},
 		{"a store's page is torn", stage.New(source{map[int]api.Page{0: dir, 1: chart}, map[int]api.Errno{2: api.ErrTorn}}), "0 1 0 0 1 190 1 30 1"},
 	} {
-		got := calls(x.s)
+		got := calls(t, x.s)
 		want := strings.Fields(x.want)
 		for i, call := range strings.Fields("take give used make make4 find state forget forget9") {
 			if got[call].Error() != "jetty: error "+want[i] {
 				t.Fatal(x.name, call, got[call], want[i])
 			}
 		}
+	}
+}
+
+func TestBehindTheLastPage(t *testing.T) { // P14.1: what the map says of pages that aren't plays no part
+	m, _ := stage.Memory(40)
+	s := stage.New(m)
+	space.Format(s, 8)
+	space.Make(s, api.Heap)
+	p := page(t, s, 1)
+	p.Cells[0].Data = "\x07\xff\xff" + p.Cells[0].Data[3:]
+	s.Set(1, p)
+	for id := 8; id < 24; id++ {
+		s.Set(id, api.Page{Store: 1})
+		if e := space.Give(s, id); e != api.ErrArg {
+			t.Fatal(id, e)
+		}
+	}
+	used(t, s, 8, 0, 1, 2)
+	if e := space.Forget(s, 1); e != api.OK {
+		t.Fatal(e)
+	}
+	p.Cells[0].Data = "\x03\xff\xff" + p.Cells[0].Data[3:]
+	if q := page(t, s, 1); q != p {
+		t.Fatal(q)
+	}
+	for id := 2; id < 8; id++ {
+		if got, e := space.Take(s); got != id || e != api.OK {
+			t.Fatal(id, got, e)
+		}
+	}
+	if got, e := space.Take(s); got != 0 || e != api.ErrSpace {
+		t.Fatal(got, e)
+	}
+}
+
+func TestStoreWithoutBytes(t *testing.T) { // P14.1: no State but Live and Ghost, whatever the cell holds
+	s := volume(t, 8)
+	s.Set(0, api.Page{Kind: api.PageDir, Cells: [6]api.Cell{{State: api.Ghost}}})
+	if e := space.State(s, 1, api.Free); e != api.ErrArg {
+		t.Fatal(e)
+	}
+	if e := space.State(s, 1, api.Live); e != api.OK {
+		t.Fatal(e)
 	}
 }
 

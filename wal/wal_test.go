@@ -368,6 +368,7 @@ func TestOpen(t *testing.T) { // P7.1: what is read, what is wiped
 		{"the second is short", map[int]string{1: sectorOf(1, s1), 2: sectorOf(2, s2[:53]), 3: sectorOf(3, s3)}, 54, []api.Entry{a}, 86, map[int]string{1: sectorOf(1, s1[:32])}},
 		{"the second has another number", map[int]string{1: sectorOf(1, s1), 2: sectorOf(130, s2), 3: sectorOf(3, s3)}, 54, []api.Entry{a}, 86, map[int]string{1: sectorOf(1, s1[:32])}},
 		{"the second tells too much", map[int]string{1: sectorOf(1, s1), 2: long, 3: sectorOf(3, s3)}, 54, []api.Entry{a}, 86, map[int]string{1: sectorOf(1, s1[:32])}},
+		{"behind one that tells too much nothing is read", map[int]string{1: sectorOf(1, rec(strings.Repeat("r", 52))), 2: long, 3: sectorOf(3, rec("c"))}, 54, []api.Entry{{At: 54, Bytes: strings.Repeat("r", 52)}}, 108, map[int]string{1: sectorOf(1, rec(strings.Repeat("r", 52)))}},
 		{"the first is another lap's", map[int]string{1: sectorOf(129, s1), 2: sectorOf(2, s2)}, 54, nil, 54, nil},
 		{"the next lap", map[int]string{1: sectorOf(129, "\x01\x00q"), 0: sectorOf(128, "\x00\x00"+rec(strings.Repeat("p", 50))), 7: junk}, 54*128 + 2, []api.Entry{{At: 54*128 + 2, Bytes: strings.Repeat("p", 50)}, {At: 54 * 129, Bytes: "q"}}, 54*129 + 3, map[int]string{1: sectorOf(129, "\x01\x00q"), 0: sectorOf(128, "\x00\x00"+rec(strings.Repeat("p", 50)))}},
 	} {
