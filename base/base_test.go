@@ -723,6 +723,52 @@ func TestManyStepsOrNone(t *testing.T) { // P19.1: an operation that is refused 
 	shelves(t, b, l...)
 }
 
+func TestAnyStepRefused(t *testing.T) { // P19.1: whichever step of an operation finds the log full
+	refused, done := 0, 0
+	for others := range 6 { // each one has its end reserved
+		for size := range 7 * 21 {
+			_, b := volume(t, 60, 128, 8)
+			x := begin(t, b)
+			ok(t, b, x, newStore(api.Object))
+			ok(t, b, x, newStore(api.Index))
+			ok(t, b, x, put(2, "k", strings.Repeat("s", size/7)))
+			ok(t, b, x, commit)
+			for num := 1; num <= 3; num++ {
+				x = begin(t, b)
+				ok(t, b, x, api.Op{Kind: api.OpNew, Store: 1, Num: num})
+				ok(t, b, x, api.Op{Kind: api.OpWrite, Store: 1, Num: num, Val: strings.Repeat("o", 16)})
+				ok(t, b, x, commit)
+			}
+			if e := b.Checkpoint(); e != api.OK {
+				t.Fatal(e)
+			}
+			x = begin(t, b)
+			for range others {
+				begin(t, b)
+			}
+			for i := range 15 { // each one takes some bytes more or less
+				b.Do(x, api.Op{Kind: api.OpSet, Store: 2, Key: "k", Val: strings.Repeat("t", (size+6-i%7)/7)}, nil)
+			}
+			before, _ := b.Shelves()
+			val := strings.Repeat("w", 32)
+			a := b.Do(x, api.Op{Kind: api.OpWrite, Store: 1, Num: 2, Val: val}, nil) // its first step needs a few bytes more than its second
+			if a.Err == api.ErrFull {
+				shelves(t, b, before...)
+				refused++
+				continue
+			}
+			if !same(a, api.Answer{}) {
+				t.Fatal(a)
+			}
+			do(t, b, x, api.Op{Kind: api.OpPiece, Store: 1, Num: 2, Len: 32}, api.Answer{Val: val})
+			done++
+		}
+	}
+	if refused == 0 || done == 0 {
+		t.Fatal(refused, done)
+	}
+}
+
 func TestCheckpoint(t *testing.T) { // P19.1, P19.2
 	d, b := volume(t, 30, 128, 8)
 	x := begin(t, b)
