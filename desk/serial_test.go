@@ -347,8 +347,11 @@ func (r *run) replay(i int) {
 		case x.op.Kind == api.OpSave:
 			marks = append(marks, mark{x.was.Num, m.copy()})
 			continue
-		case x.op.Kind == api.OpBack: // of several savepoints at one place the first
-			k := slices.IndexFunc(marks, func(k mark) bool { return k.num == x.op.Num })
+		case x.op.Kind == api.OpBack: // what has a place behind that number; of one that is no savepoint any more, too
+			k := len(marks) - 1
+			for marks[k].num > x.op.Num {
+				k--
+			}
 			m, marks = marks[k].m.copy(), marks[:k+1]
 			continue
 		}
