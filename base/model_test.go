@@ -583,6 +583,41 @@ func TestEachPlaceOfACrash(t *testing.T) { // P19.2: the device gives out at eac
 	}
 }
 
+func TestFormatInPlace(t *testing.T) { // P19.2: the device gives out while a volume is laid over another one
+	for fuel := 0; ; fuel++ {
+		for _, way := range []int{0, 1, 2, 3} {
+			d, b := volume(t, 12, 128, 4)
+			for i := range 3 {
+				x := begin(t, b)
+				ok(t, b, x, newStore(1+i))
+				ok(t, b, x, commit)
+				if e := b.Checkpoint(); e != api.OK {
+					t.Fatal(e)
+				}
+			}
+			d.Fuel(fuel)
+			e := base.Format(d, 10, 130)
+			if e != api.OK && e != api.ErrDown {
+				t.Fatal(fuel, e)
+			}
+			keep := make([]bool, d.Pending())
+			for i := range keep {
+				keep[i] = way == 1 || way > 1 && i%2 == way%2
+			}
+			b, e2 := base.Mount(d.Crash(keep), 4)
+			if e == api.OK && e2 != api.OK {
+				t.Fatal(fuel, way, e2)
+			}
+			if l, e3 := b.Shelves(); e == api.OK && (e3 != api.OK || len(l) != 0) {
+				t.Fatal(fuel, way, l, e3)
+			}
+			if e == api.OK && way == 3 {
+				return
+			}
+		}
+	}
+}
+
 func TestRestartWithAFullLog(t *testing.T) { // P19.2, P4: eight transactions have filled the log; all of it can be taken back
 	for _, sectors := range []int{128, 129, 200, 500} {
 		d, b := volume(t, 60, sectors, 8)

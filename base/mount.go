@@ -98,11 +98,7 @@ func Format(d *disk.Disk, pages, sectors int) api.Errno {
 	if e != api.OK || d.Size() < need {
 		return api.ErrArg
 	}
-	// Ahead of all else: no older master may outlive what it speaks of.
-	if e := wipe(d, 0, masters); e != api.OK {
-		return e
-	}
-	if e := d.Barrier(); e != api.OK {
+	if e := retire(d); e != api.OK {
 		return e
 	}
 	if _, e := wal.Create(d, masters, sectors); e != api.OK {
@@ -113,6 +109,23 @@ func Format(d *disk.Disk, pages, sectors int) api.Errno {
 	}
 	m := master{turn: 1, pages: pages, sectors: sectors, start: api.LogData, check: api.LogData, fresh: 1}
 	return m.write(d)
+}
+
+// retire: no master may outlive what it speaks of. The last one goes last, for the other one may speak of what is gone already.
+func retire(d *disk.Disk) api.Errno {
+	m, e := findMaster(d)
+	if e == api.ErrDown {
+		return e
+	}
+	for i := range masters {
+		if e := wipe(d, (m.turn+1+i)%masters, 1); e != api.OK {
+			return e
+		}
+		if e := d.Barrier(); e != api.OK {
+			return e
+		}
+	}
+	return api.OK
 }
 
 // wipe makes sectors blank.

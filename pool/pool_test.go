@@ -224,11 +224,6 @@ func TestDown(t *testing.T) { // P12.1
 	if e := p.Flush(); e != api.ErrDown {
 		t.Fatal(e)
 	}
-	d, _, p = bench(t, 9, 4)
-	d.Fuel(0)
-	if e := p.Flush(); e != api.ErrDown {
-		t.Fatal("the barrier of a flush", e)
-	}
 	d, l, p := bench(t, 9, 4)
 	at, _ := l.Append("r")
 	for id := range 4 {
